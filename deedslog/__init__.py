@@ -1,0 +1,1 @@
+"""A log of deeds that brings everything back."""
