@@ -11,8 +11,15 @@ SHIFT = 3
 CLEAR = 4
 MARK = 5
 
+# How many bytes a deed of each kind has.
+BYTE_COUNTS = {1: 4, 2: 3, 3: 4, 4: 2, 5: 2}
+
 GREATEST_NUMBER = 65535
 GREATEST_LABEL = 255
+
+
+def is_label(n):
+    return 0 <= n <= GREATEST_LABEL
 
 
 def bytes_of_deed(deed):
@@ -20,6 +27,12 @@ def bytes_of_deed(deed):
     if deed[0] == PUSH:
         return [PUSH, deed[1], deed[2] // 256, deed[2] % 256]
     return list(deed)
+
+
+def deed_of_bytes(deed_bytes):
+    if deed_bytes[0] == PUSH:
+        return [PUSH, deed_bytes[1], deed_bytes[2] * 256 + deed_bytes[3]]
+    return list(deed_bytes)
 
 
 def can_be_done(house, deed):
@@ -33,7 +46,7 @@ def can_be_done(house, deed):
     if kind == CLEAR:
         # A shelf has a first place just when it isn't empty.
         return house.has_place(deed[1], 0)
-    return 0 <= deed[1] <= GREATEST_LABEL
+    return is_label(deed[1])
 
 
 def carry_out(house, deed):
@@ -56,3 +69,11 @@ def house_after(deeds):
     for deed in deeds:
         carry_out(house, deed)
     return house
+
+
+def fewest_deeds(house):
+    deeds = []
+    for s, numbers in enumerate(house.shelves):
+        deeds.extend([[PUSH, s, v] for v in numbers])
+    deeds.extend([[MARK, n] for n in sorted(house.labels)])
+    return deeds

@@ -5,6 +5,12 @@ from deedslog.deeds import bytes_of_deed
 CHECK_FACTOR = 257
 CHECK_MODULUS = 65521
 
+GREATEST_BYTE = 255
+
+
+def is_byte(number):
+    return 0 <= number <= GREATEST_BYTE
+
 
 def check_behind(check_before, deed_bytes):
     check = check_before
@@ -13,10 +19,13 @@ def check_behind(check_before, deed_bytes):
     return check
 
 
-def record_behind(check_before, deed):
-    deed_bytes = bytes_of_deed(deed)
+def with_check(check_before, deed_bytes):
     check = check_behind(check_before, deed_bytes)
     return deed_bytes + [check // 256, check % 256]
+
+
+def record_behind(check_before, deed):
+    return with_check(check_before, bytes_of_deed(deed))
 
 
 def last_check(records):

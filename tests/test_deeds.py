@@ -2,16 +2,8 @@
 
 import unittest
 
-from helper import (BIG, COUNTS, MARKS, UNDO, ask, clear, filled, last, mark, pull, push, record, records_told, seen,
+from helper import (BIG, COUNTS, MARKS, UNDO, RefusalTest, ask, clear, filled, full_to, last, mark, pull, push, record,
                     shelf, shift)
-
-
-class RefusalTest(unittest.TestCase):
-    def refused(self, number, before, call):
-        self.assertEqual(last(*before, call), [number], call)
-        self.assertEqual(seen(*before, call), seen(*before), call)
-        known = last(*before, COUNTS)[0]
-        self.assertEqual(records_told(known, *before, call), records_told(known, *before), call)
 
 
 class PushTest(RefusalTest):
@@ -161,15 +153,6 @@ class MarkTest(RefusalTest):
     def test_set_again_is_a_deed_too(self):
         self.assertEqual(ask(mark(4), mark(4), MARKS, record(1), COUNTS)[:4], [[1], [2], [1, 4], [5, 4]])
         self.assertEqual(last(mark(4), mark(4), COUNTS)[:2], [2, 8])
-
-
-def full_to(count):
-    """Calls after which the log has so many bytes, an even number from 1990 on: pushes and shifts of 6, marks of 4."""
-    marks = 1
-    while (count - 4 * marks) % 6 != 0:
-        marks += 1
-    sixes = (count - 4 * marks) // 6
-    return [push(0, 1)] + [shift(k % 2, 1 - k % 2, 0) for k in range(sixes - 1)] + [mark(1)] * marks
 
 
 class LogFullTest(RefusalTest):

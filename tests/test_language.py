@@ -103,6 +103,26 @@ class LanguageTest(unittest.TestCase):
         for name in own:
             self.assertTrue(name in SPECIAL or not name.startswith("_"), name)
 
+    def test_no_local_is_called_like_an_import_or_a_class(self):
+        for name, tree in self.trees.items():
+            taken = {alias.asname or alias.name for part in tree.body if isinstance(part, ast.ImportFrom)
+                     for alias in part.names}
+            taken |= {part.name for part in tree.body if isinstance(part, ast.ClassDef)}
+            for part in ast.walk(tree):
+                if isinstance(part, ast.Name) and isinstance(part.ctx, ast.Store):
+                    self.assertNotIn(part.id, taken, (name, part.lineno))
+                if isinstance(part, ast.arg):
+                    self.assertNotIn(part.arg, taken, (name, part.lineno))
+
+    def test_no_two_files_draw_from_one_another(self):
+        drawn = {name: {node.module.removeprefix("deedslog.") + ".py" for node in tree.body
+                        if isinstance(node, ast.ImportFrom)} for name, tree in self.trees.items()}
+        while drawn:
+            free = [name for name in drawn if not drawn[name] & set(drawn)]
+            self.assertTrue(free, drawn)
+            for name in free:
+                drawn.pop(name)
+
     def test_classes(self):
         methods = set()
         values = set()

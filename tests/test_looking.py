@@ -2,13 +2,12 @@
 
 import unittest
 
-from deedslog.book import Book
-from helper import BIG, COUNTS, MARKS, UNDO, ask, clear, last, mark, pull, push, record, seen, shelf, shift
+from helper import BIG, COUNTS, MARKS, UNDO, CallsTest, ask, clear, last, mark, pull, push, record, seen, shelf, shift
 
 
-class ShelfTest(unittest.TestCase):
+class ShelfTest(CallsTest):
     def test_all_are_empty_in_the_beginning(self):
-        self.assertEqual(seen(), [[0]] * 9 + [[0, 0, 0, 1]])
+        self.assertEqual(seen(), [[0]] * 9 + [[0, 0, 0, 1], [0]])
 
     def test_numbers_in_their_order(self):
         self.assertEqual(last(push(7, 3), push(7, 1), push(7, 2), push(7, 1), shelf(7)), [4, 3, 1, 2, 1])
@@ -21,7 +20,7 @@ class ShelfTest(unittest.TestCase):
         self.assertEqual(ask(push(0, 5), push(7, 6), shelf(0), shelf(7))[2:], [[1, 5], [1, 6]])
 
 
-class MarksTest(unittest.TestCase):
+class MarksTest(CallsTest):
     def test_in_increasing_order(self):
         self.assertEqual(last(mark(200), mark(3), mark(255), mark(0), mark(20), MARKS), [5, 0, 3, 20, 200, 255])
 
@@ -35,7 +34,7 @@ class MarksTest(unittest.TestCase):
         self.assertEqual(last(push(0, 9), MARKS), [0])
 
 
-class CountsTest(unittest.TestCase):
+class CountsTest(CallsTest):
     def test_no_deed(self):
         self.assertEqual(last(COUNTS), [0, 0, 0, 1])
 
@@ -72,21 +71,15 @@ class CountsTest(unittest.TestCase):
         #   257 * 24560 + 0 + 1 = 6311921 = 96 * 65521 + 21905
         self.assertEqual(last(push(0, 5), shift(0, 1, 0), COUNTS), [2, 12, 21905, 1])
 
-    def test_bytes_in_the_log(self):
-        book = Book()
-        book.do([1, 0, 5])
-        book.do([5, 7])
-        # 10099 = 39 * 256 + 115, 26621 = 103 * 256 + 253
-        self.assertEqual(book.log, [1, 0, 0, 5, 39, 115, 5, 7, 103, 253])
-
     def test_a_refused_call_is_not_counted(self):
         self.assertEqual(last(push(0, 5), push(0, -1), clear(1), mark(256), COUNTS), [1, 6, 10099, 1])
 
     def test_the_check_after_an_undo(self):
-        self.assertEqual(ask(push(0, 5), mark(7), UNDO, COUNTS, UNDO, COUNTS)[2:], [[1], [1, 6, 10099, 1], [0], [0, 0, 0, 1]])
+        self.assertEqual(ask(push(0, 5), mark(7), UNDO, COUNTS, UNDO, COUNTS)[2:],
+                         [[1], [1, 6, 10099, 1], [0], [0, 0, 0, 1]])
 
 
-class RecordTest(unittest.TestCase):
+class RecordTest(CallsTest):
     DEEDS = [push(0, 258), push(1, 3), shift(1, 0, 0), pull(0, 1), clear(0), mark(77)]
     BYTES = [[1, 0, 1, 2], [1, 1, 0, 3], [3, 1, 0, 0], [2, 0, 1], [4, 0], [5, 77]]
 
@@ -105,7 +98,7 @@ class RecordTest(unittest.TestCase):
         self.assertEqual(last(*self.DEEDS, UNDO, record(4)), [4, 0])
 
 
-class LookingChangesNothingTest(unittest.TestCase):
+class LookingChangesNothingTest(CallsTest):
     def test_nothing_is_changed(self):
         calls = [push(0, 5), push(0, 6), mark(9)]
         looks = [shelf(0), shelf(8), MARKS, COUNTS, record(0), record(1), record(2), record(3)]

@@ -2,12 +2,13 @@
 
 import unittest
 
-from helper import COUNTS, MARKS, UNDO, ask, clear, filled, last, mark, pull, push, record, records_told, seen, shelf, shift
+from helper import (COUNTS, MARKS, UNDO, CallsTest, ask, clear, filled, last, mark, pull, push, record, records_told,
+                    seen, shelf, shift)
 
 BEFORE = [push(0, 10), push(0, 11), push(0, 12), push(1, 20), mark(4), mark(200)]
 
 
-class UndoTest(unittest.TestCase):
+class UndoTest(CallsTest):
     def undone(self, before, call):
         self.assertEqual(last(*before, call), [len(before) + 1])
         self.assertNotEqual(seen(*before, call), seen(*before))
